@@ -1,0 +1,1 @@
+"""Doubtwell: certain answers from interval data with priced probes."""

@@ -1,0 +1,48 @@
+"""Fractions as reduced tuples (numerator, denominator) of integers."""
+
+from doubtwell.errors import InvalidFraction
+
+
+def greatest_divisor(first, second):
+    """Return the greatest common divisor, which is 0 only for two zeros."""
+    first, second = abs(first), abs(second)
+    while second:
+        first, second = second, first % second
+    return first
+
+
+def rational(numerator, denominator=1):
+    """Return the reduced fraction of two integers."""
+    if denominator == 0:
+        raise InvalidFraction("the denominator is 0")
+    divisor = greatest_divisor(numerator, denominator)
+    # A negative divisor moves the sign from the denominator to the numerator.
+    if denominator < 0:
+        divisor = -divisor
+    return (numerator // divisor, denominator // divisor)
+
+
+def less(first, second):
+    """Tell whether the first fraction is smaller than the second."""
+    return first[0] * second[1] < second[0] * first[1]
+
+
+def midpoint(low, high):
+    """Return half of the sum of two fractions."""
+    return rational(low[0] * high[1] + high[0] * low[1], 2 * low[1] * high[1])
+
+
+def is_fraction(value):
+    """Tell whether a value is a reduced fraction."""
+    if not isinstance(value, tuple) or len(value) != 2:
+        return False
+    numerator, denominator = value
+    if not isinstance(numerator, int) or not isinstance(denominator, int):
+        return False
+    return denominator >= 1 and greatest_divisor(numerator, denominator) == 1
+
+
+def check_fraction(value):
+    """Raise InvalidFraction unless the value is a reduced fraction."""
+    if not is_fraction(value):
+        raise InvalidFraction(f"{value!r} is not a reduced fraction")

@@ -1,0 +1,139 @@
+"""Rules of LANGUAGE.md that a look at the files of the package can check, and where the interface is defined."""
+
+import ast
+import re
+import unittest
+import warnings
+from pathlib import Path
+
+PACKAGE = Path(__file__).resolve().parent.parent / "doubtwell"
+BARRED = (
+    "type typing typing_extensions enum Enum IntEnum StrEnum Flag IntFlag Generic Protocol ABC ABCMeta "
+    "namedtuple NamedTuple TypedDict TYPE_CHECKING abstractmethod"
+).split()
+BARRED_PARTS = ["dataclass", "overload", "contextmanager"]
+BUILTINS = (
+    "len range enumerate zip min max sum abs sorted reversed int str bool bytes list tuple dict set isinstance ord "
+    "repr any all divmod iter next super"
+).split()
+DEFINED = {
+    "errors": (
+        "QueryError InvalidFraction InvalidIntervals InvalidName DuplicateName CapacityExceeded InvalidBounds "
+        "InvalidPrice InvalidQuery InvalidText InvalidValue Uncertain LimitExceeded NoHistory NotFound UnknownItem "
+        "MissingValue"
+    ).split(),
+    "rationals": ["rational", "less", "midpoint"],
+    "intervals": ["reveal"],
+}
+
+
+def sources():
+    return sorted(PACKAGE.glob("*.py"))
+
+
+def parsed(path):
+    return ast.parse(path.read_text(encoding="utf-8"))
+
+
+class Language(unittest.TestCase):
+    def test_the_folder_holds_only_sources(self):
+        names = [path.name for path in PACKAGE.iterdir() if path.name != "__pycache__"]
+        self.assertIn("__init__.py", names)
+        for name in names:
+            self.assertRegex(name, r"\A[a-z0-9_]+\.py\Z")
+
+    def test_characters_and_sizes(self):
+        for path in sources():
+            with self.subTest(path.name):
+                text = path.read_text(encoding="utf-8")
+                self.assertRegex(text, r"\A[ -~\n]*\Z")
+                self.assertLessEqual(len(text.splitlines()), 399)
+                self.assertLessEqual(max(len(line) for line in text.splitlines()), 120)
+
+    def test_functions_are_short(self):
+        for path in sources():
+            with self.subTest(path.name):
+                for node in ast.walk(parsed(path)):
+                    if isinstance(node, ast.FunctionDef):
+                        self.assertLessEqual(node.end_lineno - node.lineno + 1, 40, node.name)
+
+    def test_barred_words(self):
+        for path in sources():
+            with self.subTest(path.name):
+                text = path.read_text(encoding="utf-8")
+                words = set(re.findall(r"\w+", text))
+                self.assertEqual(words & set(BARRED), set())
+                self.assertEqual([part for part in BARRED_PARTS if part in text], [])
+
+    def test_imports_name_modules_of_the_package(self):
+        for path in sources():
+            with self.subTest(path.name):
+                for node in ast.walk(parsed(path)):
+                    self.assertNotIsInstance(node, ast.Import)
+                    if isinstance(node, ast.ImportFrom):
+                        self.assertEqual(node.level, 0)
+                        self.assertRegex(node.module, r"\Adoubtwell\.[a-z_]+\Z")
+                        self.assertNotIn("*", [alias.name for alias in node.names])
+
+    def test_imports_go_one_way(self):
+        found = {path.stem: imported(path) for path in sources()}
+        while found:
+            free = [name for name in found if not found[name] & set(found)]
+            self.assertNotEqual(free, [], "files import from each other")
+            for name in free:
+                del found[name]
+
+    def test_no_warning(self):
+        for path in sources():
+            with self.subTest(path.name):
+                with warnings.catch_warnings():
+                    warnings.simplefilter("error")
+                    compile(path.read_text(encoding="utf-8"), path.name, "exec")
+
+    def test_plain_expressions(self):
+        for path in sources():
+            with self.subTest(path.name):
+                for node in ast.walk(parsed(path)):
+                    self.assertNotIsInstance(node, (ast.Div, ast.Global, ast.AsyncFunctionDef))
+                    if isinstance(node, ast.Constant):
+                        self.assertNotIsInstance(node.value, (float, complex))
+                        self.assertFalse(isinstance(node.value, str) and "%" in node.value)
+                    if isinstance(node, ast.Compare) and isinstance(node.ops[0], (ast.Is, ast.IsNot)):
+                        self.assertIsInstance(node.comparators[0], ast.Constant)
+
+    def test_plain_names_and_builtins(self):
+        for path in sources():
+            with self.subTest(path.name):
+                tree = parsed(path)
+                for node in ast.walk(tree):
+                    if isinstance(node, ast.Name):
+                        self.assertFalse(node.id.startswith("_"), node.id)
+                    if isinstance(node, ast.Call) and isinstance(node.func, ast.Name):
+                        self.assertIn(node.func.id, BUILTINS + bound_names(tree))
+
+    def test_the_interface_is_defined_in_its_files(self):
+        for stem, names in DEFINED.items():
+            tree = parsed(PACKAGE / f"{stem}.py")
+            defined = [node.name for node in tree.body if isinstance(node, (ast.FunctionDef, ast.ClassDef))]
+            self.assertEqual([name for name in names if name not in defined], [])
+
+
+def imported(path):
+    nodes = [node for node in ast.walk(parsed(path)) if isinstance(node, ast.ImportFrom)]
+    return {node.module.split(".")[-1] for node in nodes}
+
+
+def bound_names(tree):
+    names = []
+    for node in ast.walk(tree):
+        if isinstance(node, (ast.FunctionDef, ast.ClassDef)):
+            names.append(node.name)
+        if isinstance(node, ast.ImportFrom):
+            names += [alias.asname or alias.name for alias in node.names]
+        if isinstance(node, ast.Name) and isinstance(node.ctx, ast.Store):
+            names.append(node.id)
+    return names
+
+
+if __name__ == "__main__":
+    unittest.main()
