@@ -1,7 +1,7 @@
 """Interval lists, possible values of their items, and probes."""
 
 from doubtwell.errors import InvalidIntervals, InvalidValue, MissingValue, UnknownItem
-from doubtwell.rationals import check_fraction, less
+from doubtwell.rationals import at_most, check_fraction, less, negated
 
 CAPACITY = 24
 MAX_PRICE = 1000
@@ -50,14 +50,51 @@ def read_value(values, name, low, high):
     return value
 
 
+def is_known(row):
+    """Tell whether the item of a row (name, low, high) is known."""
+    return row[1] == row[2]
+
+
+def lies_inside(value, row):
+    """Tell whether a value lies strictly between the bounds of a row."""
+    return less(row[1], value) and less(value, row[2])
+
+
+def are_separated(first, second):
+    """Tell whether the upper bound of one row is at most the lower bound of the other."""
+    return at_most(first[2], second[1]) or at_most(second[2], first[1])
+
+
+def mirrored(row):
+    """Return the row of the same item with all values negated."""
+    name, low, high = row
+    return (name, negated(high), negated(low))
+
+
+def item_names(intervals):
+    """Return the list of the names of an interval list."""
+    return [name for name, low, high in intervals]
+
+
+def probed_row(row, values):
+    """Return the row of an item after probing it."""
+    name, low, high = row
+    value = read_value(values, name, low, high)
+    return (name, value, value)
+
+
+def probe(intervals, values, name):
+    """Return the interval list after probing one of its items."""
+    return [probed_row(row, values) if row[0] == name else row for row in intervals]
+
+
 def reveal(intervals, values, names):
     """Return the interval list after probing the named items."""
     check_intervals(intervals)
-    bounds = {name: (low, high) for name, low, high in intervals}
+    existing = item_names(intervals)
+    rows = list(intervals)
     for name in sorted(set(names)):
-        if name not in bounds:
+        if name not in existing:
             raise UnknownItem(name)
-        low, high = bounds[name]
-        value = read_value(values, name, low, high)
-        bounds[name] = (value, value)
-    return [(name, low, high) for name, (low, high) in bounds.items()]
+        rows = probe(rows, values, name)
+    return rows

@@ -27,6 +27,16 @@ def less(first, second):
     return first[0] * second[1] < second[0] * first[1]
 
 
+def at_most(first, second):
+    """Tell whether the first fraction is not greater than the second."""
+    return not less(second, first)
+
+
+def negated(value):
+    """Return the fraction with the other sign."""
+    return (-value[0], value[1])
+
+
 def midpoint(low, high):
     """Return half of the sum of two fractions."""
     return rational(low[0] * high[1] + high[0] * low[1], 2 * low[1] * high[1])

@@ -1,6 +1,7 @@
 """Rules of LANGUAGE.md that a look at the files of the package can check, and where the interface is defined."""
 
 import ast
+import builtins
 import re
 import unittest
 import warnings
@@ -24,7 +25,15 @@ DEFINED = {
     ).split(),
     "rationals": ["rational", "less", "midpoint"],
     "intervals": ["reveal"],
+    "queries": ["is_certain", "answer"],
+    "witnesses": ["required_items", "witness_pairs"],
+    "probing": ["resolve", "all_certain"],
 }
+METHODS = (
+    "append clear copy count endswith extend find get index insert isalnum isalpha isdigit islower isspace isupper "
+    "items join keys ljust lower lstrip partition pop remove replace reverse rfind rjust rpartition rsplit rstrip "
+    "setdefault split splitlines startswith strip update upper values zfill bit_length"
+).split()
 
 
 def sources():
@@ -111,6 +120,34 @@ class Language(unittest.TestCase):
                     if isinstance(node, ast.Call) and isinstance(node.func, ast.Name):
                         self.assertIn(node.func.id, BUILTINS + bound_names(tree))
 
+    def test_methods_of_builtin_values(self):
+        for path in sources():
+            with self.subTest(path.name):
+                tree = parsed(path)
+                for node in ast.walk(tree):
+                    if isinstance(node, ast.Call) and isinstance(node.func, ast.Attribute):
+                        self.assertIn(node.func.attr, METHODS + bound_names(tree) + ["__init__"])
+
+    def test_no_local_name_hides_an_import_or_a_builtin(self):
+        for path in sources():
+            with self.subTest(path.name):
+                tree = parsed(path)
+                taken = set(imported_names(tree)) | set(dir(builtins))
+                self.assertEqual(taken & set(local_names(tree)), set())
+
+    def test_every_import_is_used(self):
+        for path in sources():
+            with self.subTest(path.name):
+                tree = parsed(path)
+                used = {node.id for node in ast.walk(tree) if isinstance(node, ast.Name)}
+                self.assertEqual(set(imported_names(tree)) - used, set())
+
+    def test_no_generators(self):
+        for path in sources():
+            with self.subTest(path.name):
+                for node in ast.walk(parsed(path)):
+                    self.assertNotIsInstance(node, (ast.GeneratorExp, ast.Yield, ast.YieldFrom))
+
     def test_the_interface_is_defined_in_its_files(self):
         for stem, names in DEFINED.items():
             tree = parsed(PACKAGE / f"{stem}.py")
@@ -121,6 +158,18 @@ class Language(unittest.TestCase):
 def imported(path):
     nodes = [node for node in ast.walk(parsed(path)) if isinstance(node, ast.ImportFrom)]
     return {node.module.split(".")[-1] for node in nodes}
+
+
+def imported_names(tree):
+    nodes = [node for node in ast.walk(tree) if isinstance(node, ast.ImportFrom)]
+    return [alias.asname or alias.name for node in nodes for alias in node.names]
+
+
+def local_names(tree):
+    """Parameters and the targets of assignments, loops and comprehensions."""
+    nodes = list(ast.walk(tree))
+    targets = [node.id for node in nodes if isinstance(node, ast.Name) and isinstance(node.ctx, ast.Store)]
+    return targets + [node.arg for node in nodes if isinstance(node, ast.arg)]
 
 
 def bound_names(tree):

@@ -1,0 +1,64 @@
+"""The strategy: probes until all queries are certain, with a log of charges."""
+
+from doubtwell.intervals import check_intervals, item_names, probe
+from doubtwell.prices import check_prices, price_of
+from doubtwell.queries import certain, check_queries
+from doubtwell.witnesses import pair_names, required_names
+
+
+def every_certain(intervals, queries):
+    """Tell whether all valid queries are certain."""
+    return all([certain(intervals, query) for query in queries])
+
+
+def all_certain(intervals, queries):
+    """Tell whether all queries are certain."""
+    check_intervals(intervals)
+    check_queries(intervals, queries)
+    return every_certain(intervals, queries)
+
+
+def charge_pair(first, second, remaining):
+    """Subtract the charge of a witness pair from `remaining`, and return the entry without its value."""
+    amount = min(remaining[first], remaining[second])
+    remaining[first] -= amount
+    remaining[second] -= amount
+    probed = first if remaining[first] == 0 else second
+    return ("pair", first, second, amount, probed)
+
+
+def charge_step(intervals, queries, remaining):
+    """Charge the next step of the strategy, and return the entry without its value."""
+    required = [name for query in queries for name in required_names(intervals, query)]
+    if required:
+        # The item is known from now on, so that its remaining price is not needed again.
+        name = min(required)
+        return ("required", name, remaining[name])
+    first, second = min([pair for query in queries for pair in pair_names(intervals, query)])
+    return charge_pair(first, second, remaining)
+
+
+def probed_name(entry):
+    """Return the name that an entry of a log probes."""
+    return entry[1] if entry[0] == "required" else entry[4]
+
+
+def run_strategy(intervals, queries, values, prices):
+    """Return the resulting interval list and the log of the strategy for checked arguments."""
+    rows = list(intervals)
+    remaining = {name: price_of(prices, name) for name in item_names(intervals)}
+    log = []
+    while not every_certain(rows, queries):
+        entry = charge_step(rows, queries, remaining)
+        probed = probed_name(entry)
+        rows = probe(rows, values, probed)
+        log.append(entry + (values[probed],))
+    return (rows, log)
+
+
+def resolve(intervals, queries, values, *, prices=None):
+    """Probe by the strategy until all queries are certain."""
+    check_intervals(intervals)
+    check_queries(intervals, queries)
+    check_prices(intervals, prices)
+    return run_strategy(intervals, queries, values, prices)
