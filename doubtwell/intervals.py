@@ -39,8 +39,9 @@ def is_possible(value, low, high):
     return less(low, value) and less(value, high)
 
 
-def read_value(values, name, low, high):
-    """Return the checked value of an item with these bounds."""
+def read_value(values, row):
+    """Return the checked value of the item of a row (name, low, high)."""
+    name, low, high = row
     if name not in values:
         raise MissingValue(name)
     value = values[name]
@@ -48,6 +49,14 @@ def read_value(values, name, low, high):
     if not is_possible(value, low, high):
         raise InvalidValue(name)
     return value
+
+
+def read_values(values, rows):
+    """Return a dict with the checked value of the item of each row, read in the order of the rows."""
+    found = {}
+    for row in rows:
+        found[row[0]] = read_value(values, row)
+    return found
 
 
 def is_known(row):
@@ -71,26 +80,33 @@ def mirrored(row):
     return (name, negated(high), negated(low))
 
 
+def negated_values(found):
+    """Return the dict with each value negated, as `mirrored` does with rows."""
+    return {name: negated(found[name]) for name in found}
+
+
 def item_names(intervals):
     """Return the list of the names of an interval list."""
     return [name for name, low, high in intervals]
 
 
-def probed_row(row, values):
-    """Return the row of an item after probing it."""
-    name, low, high = row
-    value = read_value(values, name, low, high)
-    return (name, value, value)
+def row_of(intervals, name):
+    """Return the row of an item that exists."""
+    return [row for row in intervals if row[0] == name][0]
+
+
+def with_value(intervals, name, value):
+    """Return the interval list with a known value for one of its items."""
+    return [(name, value, value) if row[0] == name else row for row in intervals]
 
 
 def probe(intervals, values, name):
     """Return the interval list after probing one of its items."""
-    return [probed_row(row, values) if row[0] == name else row for row in intervals]
+    return with_value(intervals, name, read_value(values, row_of(intervals, name)))
 
 
-def reveal(intervals, values, names):
-    """Return the interval list after probing the named items."""
-    check_intervals(intervals)
+def probe_each(intervals, values, names):
+    """Return the list after probing the named items in ascending order, for a valid interval list."""
     existing = item_names(intervals)
     rows = list(intervals)
     for name in sorted(set(names)):
@@ -98,3 +114,9 @@ def reveal(intervals, values, names):
             raise UnknownItem(name)
         rows = probe(rows, values, name)
     return rows
+
+
+def reveal(intervals, values, names):
+    """Return the interval list after probing the named items."""
+    check_intervals(intervals)
+    return probe_each(intervals, values, names)

@@ -28,3 +28,8 @@ def price_of(prices, name):
     if prices is None:
         return DEFAULT_PRICE
     return prices.get(name, DEFAULT_PRICE)
+
+
+def total_price(prices, names):
+    """Return the sum of the prices of the named items."""
+    return sum([price_of(prices, name) for name in names])

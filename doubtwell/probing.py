@@ -1,8 +1,10 @@
 """The strategy: probes until all queries are certain, with a log of charges."""
 
-from doubtwell.intervals import check_intervals, item_names, probe
-from doubtwell.prices import check_prices, price_of
-from doubtwell.queries import certain, check_queries
+from doubtwell.checks import check_problem
+from doubtwell.intervals import item_names, probe
+from doubtwell.logs import probed_name
+from doubtwell.prices import price_of
+from doubtwell.queries import certain
 from doubtwell.witnesses import pair_names, required_names
 
 
@@ -13,8 +15,7 @@ def every_certain(intervals, queries):
 
 def all_certain(intervals, queries):
     """Tell whether all queries are certain."""
-    check_intervals(intervals)
-    check_queries(intervals, queries)
+    check_problem(intervals, queries)
     return every_certain(intervals, queries)
 
 
@@ -38,11 +39,6 @@ def charge_step(intervals, queries, remaining):
     return charge_pair(first, second, remaining)
 
 
-def probed_name(entry):
-    """Return the name that an entry of a log probes."""
-    return entry[1] if entry[0] == "required" else entry[4]
-
-
 def run_strategy(intervals, queries, values, prices):
     """Return the resulting interval list and the log of the strategy for checked arguments."""
     rows = list(intervals)
@@ -58,7 +54,5 @@ def run_strategy(intervals, queries, values, prices):
 
 def resolve(intervals, queries, values, *, prices=None):
     """Probe by the strategy until all queries are certain."""
-    check_intervals(intervals)
-    check_queries(intervals, queries)
-    check_prices(intervals, prices)
+    check_problem(intervals, queries, prices)
     return run_strategy(intervals, queries, values, prices)

@@ -46,13 +46,18 @@ def check_queries(intervals, queries):
         check_query(query, index, existing)
 
 
+def asked_rows(intervals, query):
+    """Return the rows of the items of a query in ascending order of names."""
+    names = names_of(query)
+    return [row for row in intervals if row[0] in names]
+
+
 def query_rows(intervals, query):
-    """Return the rows of the items of a query in ascending order of names.
+    """Return the rows of the items of a query for the rules of its kind, in ascending order of names.
 
     The rows of "max" are mirrored, so that the rules of "min" hold for them.
     """
-    names = names_of(query)
-    rows = [row for row in intervals if row[0] in names]
+    rows = asked_rows(intervals, query)
     if query[0] == "max":
         return [mirrored(row) for row in rows]
     return rows

@@ -32,6 +32,16 @@ def at_most(first, second):
     return not less(second, first)
 
 
+def smaller(first, second):
+    """Return the smaller one of two fractions."""
+    return first if less(first, second) else second
+
+
+def greater(first, second):
+    """Return the greater one of two fractions."""
+    return second if less(first, second) else first
+
+
 def negated(value):
     """Return the fraction with the other sign."""
     return (-value[0], value[1])

@@ -1,7 +1,8 @@
 """Items that every sufficient set of probes must include, alone or as one of a pair."""
 
-from doubtwell.intervals import are_separated, check_intervals, is_known, lies_inside
-from doubtwell.queries import check_queries, query_rows, row_pairs
+from doubtwell.checks import check_problem
+from doubtwell.intervals import are_separated, is_known, lies_inside
+from doubtwell.queries import query_rows, row_pairs
 from doubtwell.rationals import at_most, less
 
 
@@ -99,13 +100,11 @@ def pair_names(intervals, query):
 
 def required_items(intervals, query):
     """Return the list of all required items in ascending order."""
-    check_intervals(intervals)
-    check_queries(intervals, [query])
+    check_problem(intervals, [query])
     return required_names(intervals, query)
 
 
 def witness_pairs(intervals, query):
     """Return the list of the reported witness pairs in ascending order."""
-    check_intervals(intervals)
-    check_queries(intervals, [query])
+    check_problem(intervals, [query])
     return pair_names(intervals, query)

@@ -28,6 +28,9 @@ DEFINED = {
     "queries": ["is_certain", "answer"],
     "witnesses": ["required_items", "witness_pairs"],
     "probing": ["resolve", "all_certain"],
+    "certificates": ["check_log", "log_totals"],
+    "optimum": ["cheapest", "proven_bound"],
+    "subsets": ["is_sufficient", "cheapest_subset", "conflicting_scenarios"],
 }
 METHODS = (
     "append clear copy count endswith extend find get index insert isalnum isalpha isdigit islower isspace isupper "

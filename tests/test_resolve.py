@@ -39,9 +39,9 @@ from helpers import (
     row,
     rows,
     rule_certain,
+    some_case,
     some_instance,
     some_prices,
-    some_query,
     unknown_names,
     whole,
 )
@@ -49,13 +49,6 @@ from helpers import (
 TWO = rows(a=(0, 10), b=(5, 15))
 COMPARE = [("compare", "a", "b")]
 VALUES = {"a": (7, 1), "b": (12, 1)}
-
-
-def some_case(source, most=5, queries=3):
-    intervals, values = some_instance(source, source.randint(1, most))
-    names = names_of(intervals)
-    asked = [some_query(source, names) for _ in range(source.randint(0, queries))]
-    return intervals, asked, values, some_prices(source, names)
 
 
 class ResolveCase(unittest.TestCase):
