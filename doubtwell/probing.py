@@ -39,10 +39,15 @@ def charge_step(intervals, queries, remaining):
     return charge_pair(first, second, remaining)
 
 
+def full_prices(intervals, prices):
+    """Return a dict with the price of every item."""
+    return {name: price_of(prices, name) for name in item_names(intervals)}
+
+
 def run_strategy(intervals, queries, values, prices):
     """Return the resulting interval list and the log of the strategy for checked arguments."""
     rows = list(intervals)
-    remaining = {name: price_of(prices, name) for name in item_names(intervals)}
+    remaining = full_prices(intervals, prices)
     log = []
     while not every_certain(rows, queries):
         entry = charge_step(rows, queries, remaining)

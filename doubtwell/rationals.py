@@ -47,9 +47,22 @@ def negated(value):
     return (-value[0], value[1])
 
 
+def point_between(low, high, step, steps):
+    """Return the point that is reached from one fraction after some of the equal steps to another one."""
+    start = low[0] * high[1] * (steps - step)
+    return rational(start + high[0] * low[1] * step, low[1] * high[1] * steps)
+
+
 def midpoint(low, high):
     """Return half of the sum of two fractions."""
-    return rational(low[0] * high[1] + high[0] * low[1], 2 * low[1] * high[1])
+    return point_between(low, high, 1, 2)
+
+
+def ascending(fractions):
+    """Return the distinct ones of these fractions in ascending order."""
+    distinct = sorted(set(fractions))
+    ranked = [(len([other for other in distinct if less(other, value)]), value) for value in distinct]
+    return [value for rank, value in sorted(ranked)]
 
 
 def is_fraction(value):

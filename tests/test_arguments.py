@@ -4,8 +4,9 @@ import inspect
 import random
 import unittest
 
-from doubtwell import certificates, intervals, optimum, probing, queries, subsets, witnesses
-from doubtwell.errors import InvalidFraction, InvalidIntervals, InvalidPrice, InvalidQuery, UnknownItem
+from doubtwell import adversary, certificates, intervals, optimum, probing, queries, scenarios, subsets, witnesses
+from doubtwell.errors import InvalidFraction, InvalidIntervals, InvalidPrice, InvalidQuery, LimitExceeded
+from doubtwell.errors import Uncertain, UnknownItem
 
 from helpers import ErrorCase, parts_of, rows, some_case
 
@@ -17,6 +18,7 @@ VALUES = {"a": (7, 1), "b": (12, 1)}
 FINE = {
     "values": VALUES,
     "names": ["b"],
+    "order": ["b", "a"],
     "log": [("pair", "a", "b", 1, "a", (7, 1)), ("required", "b", 0, (12, 1))],
     "certificate": ("sweep", [("b", "a")], [("a", 1)]),
 }
@@ -24,6 +26,7 @@ FINE = {
 WRONG = {
     "values": {"a": (2, 4), "b": (99, 1)},
     "names": ["nosuch"],
+    "order": ["nosuch"],
     "log": [("required", "a", 1, (2, 4)), ()],
     "certificate": ("nothing",),
 }
@@ -41,6 +44,9 @@ FUNCTIONS = [
     subsets.is_sufficient,
     subsets.cheapest_subset,
     subsets.conflicting_scenarios,
+    scenarios.scenarios,
+    scenarios.worst_case,
+    adversary.probe_in_order,
 ]
 
 
@@ -126,7 +132,7 @@ class EveryFunction(ErrorCase):
         self.check_all(taking("queries"), InvalidQuery(0), WRONG, queries=broken[::-1])
 
     def test_prices_come_before_others(self):
-        self.assertEqual(len(taking("prices")), 5)
+        self.assertEqual(len(taking("prices")), 6)
         for prices, expected in BROKEN_PRICES:
             self.check_all(taking("prices"), expected, WRONG, prices=prices)
             self.check_all(taking("prices"), expected, FINE, prices=prices)
@@ -144,12 +150,12 @@ class EveryFunction(ErrorCase):
     def test_arguments_stay_the_same(self):
         source = random.Random(21)
         for _ in range(100):
-            some, asked, values, prices = some_case(source, least=1)
+            some, asked, values, prices = some_case(source, 4, least=1)
             given = {"intervals": some, "queries": asked, "query": asked[0], "values": values, "prices": prices}
             log = probing.resolve(some, asked, values, prices=prices)[1]
             certificate = optimum.cheapest(some, asked[0], values, prices=prices)[2]
             names = [source.choice(some)[0] for _ in range(3)]
-            rest = {"log": log, "certificate": certificate, "names": names}
+            rest = {"log": log, "certificate": certificate, "names": names, "order": names}
             for function in FUNCTIONS:
                 arguments = arguments_of(function, rest, **given)
                 self.check_unchanged(function, **arguments)
@@ -157,15 +163,16 @@ class EveryFunction(ErrorCase):
     def test_results_are_new_objects(self):
         source = random.Random(22)
         for _ in range(50):
-            some, asked, values, prices = some_case(source, least=1)
+            some, asked, values, prices = some_case(source, 4, least=1)
             given = {"intervals": some, "queries": asked, "query": asked[0], "values": values, "prices": prices}
             certificate = optimum.cheapest(some, asked[0], values, prices=prices)[2]
-            rest = {"log": [], "certificate": certificate, "names": []}
+            rest = {"log": [], "certificate": certificate, "names": [], "order": []}
             for function in FUNCTIONS:
-                if function == queries.answer and not queries.is_certain(some, asked[0]):
-                    continue
                 arguments = arguments_of(function, rest, **given)
-                first, second = function(**arguments), function(**arguments)
+                try:
+                    first, second = function(**arguments), function(**arguments)
+                except (Uncertain, LimitExceeded):
+                    continue
                 parts = parts_of(first) + parts_of(second) + parts_of(arguments)
                 self.assertEqual(len({id(part) for part in parts}), len(parts), function.__name__)
 

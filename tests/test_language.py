@@ -31,11 +31,17 @@ DEFINED = {
     "certificates": ["check_log", "log_totals"],
     "optimum": ["cheapest", "proven_bound"],
     "subsets": ["is_sufficient", "cheapest_subset", "conflicting_scenarios"],
+    "scenarios": ["scenarios", "worst_case"],
+    "adversary": ["hard_instance", "adversary_values", "probe_in_order"],
+    "store": ["Store"],
+    "query_text": ["format_query", "format_queries", "parse_queries"],
 }
 METHODS = (
     "append clear copy count endswith extend find get index insert isalnum isalpha isdigit islower isspace isupper "
     "items join keys ljust lower lstrip partition pop remove replace reverse rfind rjust rpartition rsplit rstrip "
-    "setdefault split splitlines startswith strip update upper values zfill bit_length"
+    "setdefault split splitlines startswith strip update upper values zfill bit_length "
+    "title capitalize swapcase casefold center expandtabs removeprefix removesuffix rindex isascii isdecimal isnumeric "
+    "istitle isidentifier isprintable"
 ).split()
 
 
@@ -150,6 +156,55 @@ class Language(unittest.TestCase):
             with self.subTest(path.name):
                 for node in ast.walk(parsed(path)):
                     self.assertNotIsInstance(node, (ast.GeneratorExp, ast.Yield, ast.YieldFrom))
+
+    def test_module_level(self):
+        for path in sources():
+            with self.subTest(path.name):
+                names = []
+                for node in parsed(path).body[1:]:
+                    self.assertIsInstance(node, (ast.ImportFrom, ast.FunctionDef, ast.ClassDef, ast.Assign))
+                    if isinstance(node, ast.Assign):
+                        ast.literal_eval(node.value)
+                        self.assertEqual([type(target) for target in node.targets], [ast.Name])
+                        names.append(node.targets[0].id)
+                    elif not isinstance(node, ast.ImportFrom):
+                        names.append(node.name)
+                names += imported_names(parsed(path))
+                self.assertEqual(len(set(names)), len(names))
+
+    def test_sets_are_used_at_once(self):
+        for path in sources():
+            tree = parsed(path)
+            allowed = []
+            for node in ast.walk(tree):
+                if isinstance(node, ast.Call) and isinstance(node.func, ast.Name) and node.func.id in ("len", "sorted"):
+                    allowed += node.args
+            for node in ast.walk(tree):
+                self.assertNotIsInstance(node, (ast.Set, ast.SetComp))
+                if isinstance(node, ast.Call) and isinstance(node.func, ast.Name) and node.func.id == "set":
+                    self.assertIn(node, allowed, path.name)
+
+    def test_no_name_is_a_method_and_an_attribute(self):
+        methods, attributes = set(), set()
+        for path in sources():
+            for node in ast.walk(parsed(path)):
+                if isinstance(node, ast.ClassDef):
+                    methods |= {part.name for part in node.body if isinstance(part, ast.FunctionDef)}
+                if isinstance(node, ast.Attribute) and isinstance(node.ctx, ast.Store):
+                    attributes.add(node.attr)
+        self.assertEqual(methods & attributes, set())
+        self.assertIn("capacity", attributes)
+
+    def test_statements(self):
+        barred = (ast.Try, ast.With, ast.Match, ast.Lambda, ast.NamedExpr, ast.AnnAssign, ast.Delete, ast.Nonlocal)
+        for path in sources():
+            with self.subTest(path.name):
+                for node in ast.walk(parsed(path)):
+                    self.assertNotIsInstance(node, barred)
+                    if isinstance(node, ast.FunctionDef):
+                        self.assertEqual(node.decorator_list, [])
+                        nested = [part for part in ast.walk(node) if isinstance(part, ast.FunctionDef)]
+                        self.assertEqual(nested, [node])
 
     def test_the_interface_is_defined_in_its_files(self):
         for stem, names in DEFINED.items():
